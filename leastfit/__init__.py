@@ -1,0 +1,1 @@
+"""Leastfit: the least program that fits examples."""
