@@ -2,7 +2,7 @@
 
 from leastfit.components import argument_kinds, is_component, result_kind
 from leastfit.errors import InvalidProgram
-from leastfit.values import KINDS, is_value, kind_of_value
+from leastfit.values import is_of_some_kind, kind_of_value
 
 MOST_PARTS = 60
 MOST_DEPTH = 30
@@ -72,7 +72,7 @@ def _is_sound(kinds, part, wanted):
     if part[0] == "input":
         sound = len(part) == 2 and _is_index(part[1], len(kinds))
     elif part[0] == "constant":
-        sound = len(part) == 2 and any([is_value(kind, part[1]) for kind in KINDS])
+        sound = len(part) == 2 and is_of_some_kind(part[1])
     else:
         sound = is_component(part[0]) and len(part) - 1 == len(argument_kinds(part[0]))
     return sound and (wanted is None or _part_kind(kinds, part) == wanted)

@@ -46,6 +46,18 @@ def is_value(kind, value):
     return kind == "list" and is_list(value)
 
 
+def is_of_some_kind(value):
+    """Return True if the value is a value of one of the kinds."""
+    return any([is_value(kind, value) for kind in KINDS])
+
+
+def is_row(kinds, row):
+    """Return True if the row is a tuple of exactly one value of the right kind for each of the input kinds."""
+    if not isinstance(row, tuple) or len(row) != len(kinds):
+        return False
+    return all([is_value(kind, value) for kind, value in zip(kinds, row)])
+
+
 def kind_of_value(value):
     """Return the kind of a value. Raise InvalidValue if it is not a value of any kind."""
     for kind in KINDS:

@@ -19,6 +19,16 @@ INTERFACE = {
     "values": ["is_value", "kind_of_value", "compare_values", "write_value", "read_value"],
     "components": ["names", "argument_kinds", "result_kind", "is_commutative", "apply"],
     "programs": ["program_kind", "size", "depth", "symbols", "parts"],
+    "notation": ["write_program", "read_program"],
+    "meaning": ["run", "outcomes"],
+    "tasks": ["Task"],
+    "tables": ["Table"],
+}
+
+# The methods that it lists for a class.
+METHODS = {
+    "Task": ["kinds", "result", "costs", "constants", "input_cost", "check", "cost", "ranks", "compare"],
+    "Table": ["work", "grow", "level", "rows", "task", "classes", "find", "count"],
 }
 
 BUILTINS = """
@@ -100,6 +110,39 @@ class LanguageTest(unittest.TestCase):
         for name, listed in INTERFACE.items():
             defined = defined_in(f"leastfit.{name}")
             self.assertEqual([word for word in listed if word not in defined], [], name)
+
+    def test_methods_are_defined_in_their_class(self):
+        classes = {node.name: node for _, node in self.each_node() if isinstance(node, ast.ClassDef)}
+        for name, listed in METHODS.items():
+            self.assertEqual([word for word in listed if word not in definitions(classes[name])], [], name)
+
+    def test_no_name_is_a_method_and_an_attribute(self):
+        assigned = set()
+        methods = set()
+        for _, node in self.each_node():
+            if isinstance(node, ast.Attribute) and isinstance(node.ctx, ast.Store):
+                assigned.add(node.attr)
+            if isinstance(node, ast.ClassDef):
+                methods.update(definitions(node))
+        self.assertEqual(assigned & methods, set())
+
+    def test_imports_go_around_in_no_circle(self):
+        imported = {}
+        for name, tree in TREES.items():
+            modules = [node.module for node in tree.body if isinstance(node, ast.ImportFrom)]
+            imported[name] = {module.split(".")[1] + ".py" for module in modules if module.startswith("leastfit.")}
+        while imported:
+            free = [name for name, needed in imported.items() if not needed & set(imported)]
+            self.assertNotEqual(free, [], imported)
+            for name in free:
+                del imported[name]
+
+    def test_imported_names_are_used_and_have_no_other_meaning(self):
+        for name, tree in TREES.items():
+            imported = [alias.name for node in tree.body if isinstance(node, ast.ImportFrom) for alias in node.names]
+            used = {node.id for node in ast.walk(tree) if isinstance(node, ast.Name)}
+            self.assertEqual([word for word in imported if word not in used], [], name)
+            self.assertEqual([word for word in imported if word in list(bound_names(tree))], [], name)
 
     def test_builtins(self):
         for name, node in self.each_node():
