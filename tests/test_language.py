@@ -23,12 +23,26 @@ INTERFACE = {
     "meaning": ["run", "outcomes"],
     "tasks": ["Task"],
     "tables": ["Table"],
+    "simplify": ["simplify", "precedes"],
+    "goals": ["Goal"],
+    "certificates": ["clue_rows", "is_clue", "fits_clues", "example_clues", "make_table"],
+    "checker": ["is_closed", "accepts"],
+    "search": ["Search"],
+    "backward": ["solutions", "reach"],
+    "workshop": ["Workshop"],
+    "saving": ["write_workshop", "read_workshop"],
 }
 
 # The methods that it lists for a class.
 METHODS = {
     "Task": ["kinds", "result", "costs", "constants", "input_cost", "check", "cost", "ranks", "compare"],
     "Table": ["work", "grow", "level", "rows", "task", "classes", "find", "count"],
+    "Goal": ["task", "examples", "properties", "box", "rows", "holds", "accepts_outcome", "failure"],
+    "Search": ["step", "run", "status", "level", "clues", "answer"],
+    "Workshop": [
+        "add_example", "add_property", "drop_example", "drop_property", "set_box", "task", "examples", "properties",
+        "box", "next_numbers", "goal", "kept", "ask",
+    ],
 }
 
 BUILTINS = """
@@ -164,6 +178,43 @@ class LanguageTest(unittest.TestCase):
             if isinstance(node, ast.Constant):
                 self.assertNotIsInstance(node.value, float, name)
                 self.assertFalse(isinstance(node.value, str) and "%" in node.value, name)
+
+    def test_generator_expressions_are_iterated_at_once(self):
+        takers = ["list", "tuple", "dict", "sorted", "sum", "min", "max", "any", "all", "join"]
+        for name, tree in TREES.items():
+            taken = []
+            for node in ast.walk(tree):
+                if isinstance(node, ast.Call) and getattr(node.func, "id", getattr(node.func, "attr", "")) in takers:
+                    taken += [id(argument) for argument in node.args]
+            for node in ast.walk(tree):
+                if isinstance(node, ast.GeneratorExp):
+                    self.assertIn(id(node), taken, f"{name}:{node.lineno}")
+
+    def test_handlers_name_own_errors(self):
+        own = INTERFACE["errors"] + ["KeyError", "ZeroDivisionError", "StopIteration"]
+        for name, node in self.each_node():
+            if isinstance(node, ast.ExceptHandler):
+                caught = node.type.elts if isinstance(node.type, ast.Tuple) else [node.type]
+                self.assertEqual([error.id for error in caught if error.id not in own], [], f"{name}:{node.lineno}")
+
+    def test_errors_are_created_where_they_are_raised(self):
+        for name, node in self.each_node():
+            if isinstance(node, ast.Raise) and node.exc is not None:
+                self.assertIsInstance(node.exc, ast.Call, f"{name}:{node.lineno}")
+                self.assertIn(node.exc.func.id, INTERFACE["errors"], f"{name}:{node.lineno}")
+
+    def test_identity_of_none_and_truths_alone(self):
+        for name, node in self.each_node():
+            if isinstance(node, ast.Compare):
+                for sign, other in zip(node.ops, node.comparators):
+                    if isinstance(sign, (ast.Is, ast.IsNot)):
+                        self.assertIn(ast.unparse(other), ("None", "True", "False"), f"{name}:{node.lineno}")
+
+    def test_words_that_are_not_used(self):
+        words = "type typing enum Enum Flag Generic Protocol ABC namedtuple NamedTuple dataclass overload open".split()
+        for name, node in self.each_node():
+            for attribute in ("name", "id", "attr", "arg"):
+                self.assertNotIn(getattr(node, attribute, None), words, name)
 
     def each_node(self):
         for name, tree in TREES.items():
